@@ -1,0 +1,1 @@
+"""Array programs as texts: read from right to left, faults placed, printed in one form."""

@@ -1,0 +1,58 @@
+"""The refusals with which the reading of a text ends, one error class each."""
+
+
+class Refused(Exception):
+    """A text can't be read: the refusal's number without its sign, and the fault's position."""
+
+    def __init__(self, number, position):
+        self.number = number
+        self.position = position
+
+
+class LongFault(Refused):
+    """The text has too many bytes."""
+
+    def __init__(self):
+        Refused.__init__(self, 1, 0)
+
+
+class TokenFault(Refused):
+    """No token fits here."""
+
+    def __init__(self, position):
+        Refused.__init__(self, 2, position)
+
+
+class SyntaxFault(Refused):
+    """What was read so far can't go on with this token."""
+
+    def __init__(self, position):
+        Refused.__init__(self, 3, position)
+
+
+class DeepFault(Refused):
+    """An EXPR would begin here at too high a level."""
+
+    def __init__(self, position):
+        Refused.__init__(self, 4, position)
+
+
+class NameFault(Refused):
+    """The name that is mentioned here stands for nothing."""
+
+    def __init__(self, position):
+        Refused.__init__(self, 5, position)
+
+
+class TwiceFault(Refused):
+    """The name that is given here has a meaning already."""
+
+    def __init__(self, position):
+        Refused.__init__(self, 6, position)
+
+
+class DepthFault(Refused):
+    """The program's tree is too deep."""
+
+    def __init__(self):
+        Refused.__init__(self, 7, 0)
