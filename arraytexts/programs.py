@@ -3,9 +3,12 @@
 from arraytexts.faults import Refused
 from arraytexts.printing import printed_program
 from arraytexts.reading import read
+from arraytexts.telling import told_program
 
 LONGEST_PLAIN_FORM = 2048
 PLAIN_FORM_LONG = -8
+# How much less than a refusal is answered where it's the second text that is refused.
+LESS_FOR_SECOND = 10
 
 
 def plain(text):
@@ -27,3 +30,24 @@ def where(text):
     except Refused as refusal:
         return [refusal.number, refusal.position]
     return [0, 0]
+
+
+def tree(text):
+    """0 and the program's tree as numbers, or a refusal."""
+    try:
+        program = read(text)
+    except Refused as refusal:
+        return [-refusal.number]
+    return [0] + told_program(program)
+
+
+def same(a, b):
+    """1 if the trees of the two programs are the same, 0 if not, or the refusal of a, or else that of b."""
+    first = tree(a)
+    if first[0] != 0:
+        return first
+    second = tree(b)
+    if second[0] != 0:
+        return [second[0] - LESS_FOR_SECOND]
+    # Every count stands ahead of what it counts, so different trees are never told by the same numbers.
+    return [1 if first == second else 0]

@@ -4,7 +4,7 @@ import random
 import unittest
 
 from arraytexts import programs
-from helper import as_bytes, plain
+from helper import as_bytes, form_of, loose_of, made_programs, plain
 
 
 class Plain(unittest.TestCase):
@@ -96,72 +96,18 @@ class Plain(unittest.TestCase):
 class Spread(unittest.TestCase):
     """Programs made at random, with blanks, comments and parentheses spread over them."""
 
-    def setUp(self):
-        self.random = random.Random(20)
-
-    def gap(self):
-        return self.random.choice(["", "", " ", "\n", "\t \r", "#(\n", " # 1 + \n "])
-
-    def number(self):
-        value = self.random.choice([0, 1, 7, 10, 123, 10**18, self.random.randrange(10**18)])
-        return "_" + str(value) if value and self.random.random() < 0.4 else str(value)
-
-    def expression(self, depth, left=False):
-        """The plain form and the same with more in it."""
-        choice = self.random.randrange(2 if depth < 2 else 5)
-        if choice == 0:
-            numbers = [self.number() for _ in range(self.random.randint(1, 3))]
-            form, loose = " ".join(numbers), (" " + self.gap()).join(numbers)
-        elif choice == 1:
-            form = loose = self.random.choice(["a", "b", "x", "y", "z9Z"])
-        else:
-            right, loose_right = self.expression(depth - 1)
-            function, loose_function = self.function(depth - 1)
-            form = function + " " + right
-            loose = loose_function + " " + self.gap() + loose_right
-            if choice > 2:
-                first, loose_first = self.expression(depth - 1, True)
-                form, loose = first + " " + form, loose_first + " " + self.gap() + loose
-            if left:
-                form, loose = "(" + form + ")", "(" + loose + self.gap() + ")"
-        while self.random.random() < 0.15:
-            loose = "(" + self.gap() + loose + self.gap() + ")"
-        return form, loose
-
-    def function(self, depth):
-        choice = self.random.randrange(2 if depth < 2 else 4)
-        if choice == 0:
-            word = self.random.choice(["+", "-", "*", "<", "<=", "=", "/="])
-            return word, word
-        if choice == 1:
-            word = self.random.choice(["Abs", "Iota", "Where", "Given"])
-            return word, word
-        if choice == 2:
-            form, loose = self.expression(depth - 1)
-            return "{" + form + "}", "{" + self.gap() + loose + self.gap() + "}"
-        form, loose = self.function(depth - 1)
-        modifier = self.random.choice([":fold", ":scan", ":table", ":swap", ":at"])
-        if modifier != ":at":
-            return form + modifier, loose + self.gap() + modifier
-        rank = str(self.random.randrange(6))
-        return form + ":at " + rank, loose + self.gap() + ":at " + self.gap() + rank
-
     def test_programs(self):
+        source = random.Random(20)
         seen = 0
-        for _ in range(3000):
-            function, loose_function = self.function(3)
-            named, loose_named = self.expression(4)
-            last, loose_last = self.expression(6)
-            form = "Given := {" + "x}; F := {" + function + " x}; c := {" + named + "} 1; {" + last + "} c"
-            loose = ("Given:={x};" + self.gap() + "F:={" + loose_function + " x}" + self.gap() + ";c:={" + loose_named
-                     + "}1;" + self.gap() + "{" + loose_last + "}c")
+        for program in made_programs(source, 6000):
+            loose, form = loose_of(program, source), form_of(program)
             if len(loose) > 2048:
                 continue
             seen += 1
             self.assertEqual(plain(loose), form if len(form) <= 2048 else -8, loose)
             if len(form) <= 2048:
                 self.assertEqual(plain(form), form)
-        self.assertGreater(seen, 2500)
+        self.assertGreater(seen, 5000)
 
 
 if __name__ == "__main__":
