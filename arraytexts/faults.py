@@ -1,8 +1,8 @@
-"""The refusals with which the reading of a text ends, one error class each."""
+"""The refusals, one error class each."""
 
 
 class Refused(Exception):
-    """A text can't be read: the refusal's number without its sign, and the fault's position."""
+    """A call refuses: the refusal's number without its sign, and the position of the fault in the text."""
 
     def __init__(self, number, position):
         self.number = number
@@ -56,3 +56,10 @@ class DepthFault(Refused):
 
     def __init__(self):
         Refused.__init__(self, 7, 0)
+
+
+class LongFormFault(Refused):
+    """The plain form has too many bytes."""
+
+    def __init__(self):
+        Refused.__init__(self, 8, 0)

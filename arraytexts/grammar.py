@@ -3,7 +3,7 @@
 from arraytexts.faults import DeepFault, SyntaxFault
 from arraytexts.names import PRIMITIVE_WORDS
 from arraytexts.tokens import number_of
-from arraytexts.trees import Program, Statement, applied_node, body_node, modified_node, numbers_node, word_node
+from arraytexts.trees import Statement, applied_node, body_node, modified_node, numbers_node, word_node
 
 MOST_LEVELS = 30
 LARGEST_RANK = 5
@@ -13,11 +13,15 @@ FUNCTION_BEGINS = ("primitive", "word", "{")
 
 
 class Reader:
-    """Stands at one token; what is called read_.. reads that, from this token on."""
+    """Stands at one token; what is called read_.. reads that, from this token on.
+
+    A PROGRAM is read by read_statements and then read_last; atoms are the positions of the ATOMs read so far.
+    """
 
     def __init__(self, tokens):
         self.tokens = tokens
         self.place = 0
+        self.atoms = []
 
     def kind_here(self):
         return self.tokens[self.place].kind
@@ -33,14 +37,18 @@ class Reader:
             raise SyntaxFault(self.tokens[self.place].position)
         return self.take()
 
-    def read_program(self):
+    def read_statements(self):
         statements = []
         # Behind a name or word there is always one token more: the end at least.
         while self.kind_here() in GIVEN_KINDS and self.tokens[self.place + 1].kind == ":=":
             statements.append(self.read_statement())
+        return statements
+
+    def read_last(self):
+        """The EXPR with which the program ends."""
         expression = self.read_expression(1)
         self.take_kind("end")
-        return Program(statements, expression)
+        return expression
 
     def read_statement(self):
         given = self.take()
@@ -87,6 +95,8 @@ class Reader:
         return function
 
     def read_atom(self, level):
+        # Ahead of what is in a body, as the body stands at its { .
+        self.atoms.append(self.tokens[self.place].position)
         if self.kind_here() == "primitive":
             return word_node("primitive", self.take().spelling)
         if self.kind_here() == "word":

@@ -1,4 +1,4 @@
-"""Looks for faults in the names of a program that can be read by the grammar."""
+"""Tells the names of a program that can be read by the grammar apart, and looks for faults in them."""
 
 from arraytexts.faults import NameFault, TwiceFault
 
@@ -10,7 +10,7 @@ ARGUMENTS = ("x", "y")
 
 
 class Names:
-    """What the STMTs so far gave, and which inputs have been mentioned so far."""
+    """What the STMTs so far gave, and the inputs mentioned so far in the order of their first mentions."""
 
     def __init__(self):
         self.given = {}
@@ -54,8 +54,8 @@ class Names:
             raise NameFault(token.position)
 
 
-def refuse_names(tokens):
-    """Raises the NameFault or TwiceFault with the least position, if there is one."""
+def inputs_of(tokens):
+    """The inputs, each once; raises the NameFault or TwiceFault with the least position, if there is one."""
     names = Names()
     begin = 0
     # By the grammar a ; stands at the end of a STMT and nowhere else.
@@ -64,3 +64,4 @@ def refuse_names(tokens):
             names.give(tokens[begin], tokens[begin + 2:place])
             begin = place + 1
     names.mention_all(tokens[begin:])
+    return list(names.inputs)

@@ -1,5 +1,17 @@
 """Prints programs in the plain form."""
 
+from arraytexts.faults import LongFormFault
+
+LONGEST_FORM = 2048
+
+
+def plain_bytes(program):
+    """The bytes of the program's plain form; raises LongFormFault."""
+    form = printed_program(program)
+    if len(form) > LONGEST_FORM:
+        raise LongFormFault()
+    return [ord(sign) for sign in form]
+
 
 def printed_program(program):
     pieces = [printed_statement(statement) for statement in program.statements]

@@ -1,26 +1,17 @@
 """The calls: each answers a list of whole numbers from its texts alone."""
 
 from arraytexts.faults import Refused
-from arraytexts.printing import printed_program
+from arraytexts.printing import plain_bytes
 from arraytexts.reading import read
-from arraytexts.telling import told_program
+from arraytexts.telling import told_atoms, told_inputs, told_program
 
-LONGEST_PLAIN_FORM = 2048
-PLAIN_FORM_LONG = -8
 # How much less than a refusal is answered where it's the second text that is refused.
 LESS_FOR_SECOND = 10
 
 
 def plain(text):
     """0 and the bytes of the program's plain form, or a refusal."""
-    try:
-        program = read(text)
-    except Refused as refusal:
-        return [-refusal.number]
-    form = printed_program(program)
-    if len(form) > LONGEST_PLAIN_FORM:
-        return [PLAIN_FORM_LONG]
-    return [0] + [ord(sign) for sign in form]
+    return answered(text, plain_bytes)
 
 
 def where(text):
@@ -34,11 +25,7 @@ def where(text):
 
 def tree(text):
     """0 and the program's tree as numbers, or a refusal."""
-    try:
-        program = read(text)
-    except Refused as refusal:
-        return [-refusal.number]
-    return [0] + told_program(program)
+    return answered(text, told_program)
 
 
 def same(a, b):
@@ -51,3 +38,22 @@ def same(a, b):
         return [second[0] - LESS_FOR_SECOND]
     # Every count stands ahead of what it counts, so different trees are never told by the same numbers.
     return [1 if first == second else 0]
+
+
+def inputs(text):
+    """0 and the inputs in the order of their first mentions, each as its length and its bytes, or a refusal."""
+    return answered(text, told_inputs)
+
+
+def atoms(text):
+    """0 and the position of each ATOM in the order of the text, or a refusal."""
+    return answered(text, told_atoms)
+
+
+def answered(text, tell):
+    """0 and the numbers that tell, a function, gives for the text's program; or the refusal's number alone."""
+    try:
+        numbers = tell(read(text))
+    except Refused as refusal:
+        return [-refusal.number]
+    return [0] + numbers

@@ -2,8 +2,9 @@
 
 from arraytexts.faults import DepthFault, LongFault
 from arraytexts.grammar import Reader
-from arraytexts.names import refuse_names
+from arraytexts.names import inputs_of
 from arraytexts.tokens import cut
+from arraytexts.trees import Program
 
 LONGEST_TEXT = 2048
 GREATEST_DEPTH = 40
@@ -14,8 +15,10 @@ def read(text):
     if len(text) > LONGEST_TEXT:
         raise LongFault()
     tokens = cut(text)
-    program = Reader(tokens).read_program()
-    refuse_names(tokens)
+    reader = Reader(tokens)
+    statements = reader.read_statements()
+    expression = reader.read_last()
+    program = Program(statements, expression, reader.atoms, inputs_of(tokens))
     if program.depth > GREATEST_DEPTH:
         raise DepthFault()
     return program

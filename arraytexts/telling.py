@@ -1,4 +1,4 @@
-"""Tells programs as numbers."""
+"""Tells programs, and what is in them, as numbers."""
 
 KIND_NUMBERS = {"numbers": 0, "name": 1, "one": 2, "two": 3, "primitive": 4, "given": 5, "body": 6}
 MODIFIER_NUMBERS = {":fold": 7, ":scan": 8, ":table": 9, ":swap": 10, ":at": 11}
@@ -12,6 +12,17 @@ def told_program(program):
         told.extend(told_node(statement.node))
     told.extend(told_node(program.expression))
     return told
+
+
+def told_inputs(program):
+    told = []
+    for name in program.inputs:
+        told.extend(told_word(name))
+    return told
+
+
+def told_atoms(program):
+    return list(program.atoms)
 
 
 def told_node(node):

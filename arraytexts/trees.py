@@ -28,11 +28,13 @@ class Statement:
 
 
 class Program:
-    """The STMTs and the expression behind them."""
+    """The STMTs and the expression behind them, the positions of the ATOMs, and the names of the inputs."""
 
-    def __init__(self, statements, expression):
+    def __init__(self, statements, expression, atoms, inputs):
         self.statements = statements
         self.expression = expression
+        self.atoms = atoms
+        self.inputs = inputs
         self.depth = max([statement.node.depth for statement in statements] + [expression.depth])
 
 

@@ -40,6 +40,30 @@ def same(words, others):
     return answer[0]
 
 
+def inputs(words):
+    """The inputs as words, or the refusal's number."""
+    answer = programs.inputs(as_bytes(words))
+    if answer[0] != 0:
+        assert len(answer) == 1, answer
+        return answer[0]
+    names, place = [], 1
+    while place < len(answer):
+        stop = place + 1 + answer[place]
+        assert place + 1 < stop <= len(answer), answer
+        names.append("".join(chr(byte) for byte in answer[place + 1:stop]))
+        place = stop
+    return names
+
+
+def atoms(words):
+    """The positions of the ATOMs, or the refusal's number."""
+    answer = programs.atoms(as_bytes(words))
+    if answer[0] == 0:
+        return answer[1:]
+    assert len(answer) == 1, answer
+    return answer[0]
+
+
 # One or more texts for each refusal of reading.
 REFUSED = {
     "1" + " " * 2048: -1, "$" * 2049: -1, " " * 4096: -1,
@@ -138,16 +162,27 @@ def node_form(node):
 
 def loose_of(program, source):
     """A text of the program, with blanks, comments and parentheses spread over it at random."""
+    return laid_out(program_tokens(program, source), source)[0]
+
+
+def program_tokens(program, source):
+    """The tokens of the program, with parentheses spread over it at random."""
     statements, expression = program
     tokens = []
     for name, node in statements:
         is_function = name[0].isupper()
         tokens += [name, ":="] + (function_tokens if is_function else expression_tokens)(node, source) + [";"]
-    tokens += expression_tokens(expression, source)
-    words = gap(source)
+    return tokens + expression_tokens(expression, source)
+
+
+def laid_out(tokens, source):
+    """A text of the tokens, with blanks and comments spread over it at random, and the position of each."""
+    words, places = gap(source), []
     for token in tokens:
-        words += " " * runs_on(words, token) + token + gap(source)
-    return words
+        words += " " * runs_on(words, token)
+        places.append(len(words))
+        words += token + gap(source)
+    return words, places
 
 
 def gap(source):
