@@ -63,3 +63,10 @@ class LongFormFault(Refused):
 
     def __init__(self):
         Refused.__init__(self, 8, 0)
+
+
+class FlatFault(Refused):
+    """The program without STMTs is too deep, or its plain form has too many levels."""
+
+    def __init__(self):
+        Refused.__init__(self, 9, 0)

@@ -1,13 +1,17 @@
 """Prints programs in the plain form."""
 
 from arraytexts.faults import LongFormFault
+from arraytexts.trees import is_applied
 
 LONGEST_FORM = 2048
 
 
 def plain_bytes(program):
     """The bytes of the program's plain form; raises LongFormFault."""
-    form = printed_program(program)
+    return form_bytes(printed_program(program))
+
+
+def form_bytes(form):
     if len(form) > LONGEST_FORM:
         raise LongFormFault()
     return [ord(sign) for sign in form]
@@ -39,7 +43,7 @@ def printed(node):
 
 
 def printed_left(node):
-    if node.kind == "one" or node.kind == "two":
+    if is_applied(node):
         return "(" + printed(node) + ")"
     return printed(node)
 

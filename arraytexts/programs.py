@@ -1,9 +1,10 @@
 """The calls: each answers a list of whole numbers from its texts alone."""
 
 from arraytexts.faults import Refused
+from arraytexts.flattening import flat_bytes
 from arraytexts.printing import plain_bytes
 from arraytexts.reading import read
-from arraytexts.telling import told_atoms, told_inputs, told_program
+from arraytexts.telling import told_atoms, told_inputs, told_program, told_sizes
 
 # How much less than a refusal is answered where it's the second text that is refused.
 LESS_FOR_SECOND = 10
@@ -48,6 +49,16 @@ def inputs(text):
 def atoms(text):
     """0 and the position of each ATOM in the order of the text, or a refusal."""
     return answered(text, told_atoms)
+
+
+def flat(text):
+    """0 and the bytes of the plain form of the program without STMTs, or a refusal."""
+    return answered(text, flat_bytes)
+
+
+def sizes(text):
+    """0, how many STMTs and ATOMs there are, the depth, and how many bytes the plain form has, or a refusal."""
+    return answered(text, told_sizes)
 
 
 def answered(text, tell):

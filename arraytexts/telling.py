@@ -1,5 +1,7 @@
 """Tells programs, and what is in them, as numbers."""
 
+from arraytexts.printing import printed_program
+
 KIND_NUMBERS = {"numbers": 0, "name": 1, "one": 2, "two": 3, "primitive": 4, "given": 5, "body": 6}
 MODIFIER_NUMBERS = {":fold": 7, ":scan": 8, ":table": 9, ":swap": 10, ":at": 11}
 WORD_KINDS = ("name", "primitive", "given")
@@ -23,6 +25,10 @@ def told_inputs(program):
 
 def told_atoms(program):
     return list(program.atoms)
+
+
+def told_sizes(program):
+    return [len(program.statements), len(program.atoms), program.depth, len(printed_program(program))]
 
 
 def told_node(node):

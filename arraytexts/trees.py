@@ -1,5 +1,7 @@
 """The trees of programs."""
 
+APPLIED_KINDS = ("one", "two")
+
 
 class Node:
     """An expression or a function.
@@ -15,8 +17,24 @@ class Node:
         self.word = word
         self.numbers = numbers
         self.parts = parts
-        # Kept from the start, as a tree that is not yet known to be shallow can't be gone down.
+        # Kept from the start: a tree that may be deep can't be gone down by calls, and one whose parts stand in it
+        # many times, as the same objects, can't be gone through at all.
         self.depth = 1 + max([part.depth for part in parts], default=0)
+        self.levels = levels_of(kind, parts)
+        self.nodes = 1 + sum([part.nodes for part in parts])
+
+
+def levels_of(kind, parts):
+    """How many levels the plain form has, from that of the EXPR that the node is, or in which it stands, on."""
+    levels = [part.levels for part in parts]
+    if kind == "body" or (kind == "two" and is_applied(parts[0])):
+        levels[0] += 1
+    return max(levels, default=1)
+
+
+def is_applied(node):
+    """Whether it's a function of one or of two: these stand in parentheses as left operands."""
+    return node.kind in APPLIED_KINDS
 
 
 class Statement:

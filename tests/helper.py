@@ -12,13 +12,23 @@ def as_bytes(words):
     return [ord(sign) for sign in words]
 
 
-def plain(words):
-    """The plain form as words, or the refusal's number."""
-    answer = programs.plain(as_bytes(words))
+def told(answer):
+    """What is answered behind a 0, or the refusal's number."""
     if answer[0] == 0:
-        return "".join(chr(byte) for byte in answer[1:])
+        return answer[1:]
     assert len(answer) == 1, answer
     return answer[0]
+
+
+def as_words(answer):
+    """What is answered behind a 0 as words, or the refusal's number."""
+    behind = told(answer)
+    return "".join(chr(byte) for byte in behind) if isinstance(behind, list) else behind
+
+
+def plain(words):
+    """The plain form as words, or the refusal's number."""
+    return as_words(programs.plain(as_bytes(words)))
 
 
 def where(words):
@@ -27,11 +37,7 @@ def where(words):
 
 def tree(words):
     """The program's numbers, or the refusal's number."""
-    answer = programs.tree(as_bytes(words))
-    if answer[0] == 0:
-        return answer[1:]
-    assert len(answer) == 1, answer
-    return answer[0]
+    return told(programs.tree(as_bytes(words)))
 
 
 def same(words, others):
@@ -57,11 +63,17 @@ def inputs(words):
 
 def atoms(words):
     """The positions of the ATOMs, or the refusal's number."""
-    answer = programs.atoms(as_bytes(words))
-    if answer[0] == 0:
-        return answer[1:]
-    assert len(answer) == 1, answer
-    return answer[0]
+    return told(programs.atoms(as_bytes(words)))
+
+
+def flat(words):
+    """The plain form without STMTs as words, or the refusal's number."""
+    return as_words(programs.flat(as_bytes(words)))
+
+
+def sizes(words):
+    """The four sizes, or the refusal's number."""
+    return told(programs.sizes(as_bytes(words)))
 
 
 # One or more texts for each refusal of reading.
@@ -219,6 +231,11 @@ def function_tokens(node, source):
         modifier, rank, function = rest
         return function_tokens(function, source) + [modifier] + ([] if rank is None else [str(rank)])
     return rest
+
+
+def depth_of(node):
+    """The depth of a node, by its words in the document."""
+    return 1 + max([depth_of(part) for part in node if isinstance(part, tuple)], default=0)
 
 
 def numbers_of(program):
